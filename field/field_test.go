@@ -159,6 +159,15 @@ func TestNoFrames(t *testing.T) {
 		}
 		waits(t, f, 0, 0, 0, 0)
 	}
+	for _, line := range []int{0, 3} {
+		f := New([]api.Device{{Line: line, Unit: 0}})
+		for _, b := range [][]byte{nil, {1}, {0, 0, 0, 0}, frame(3-line, 1, 0, askOn), make([]byte, 300)} {
+			f.Ask(line, b, 1)
+		}
+		if f.Waits(line) != 0 {
+			t.Error("what is no frame goes to the unit 0")
+		}
+	}
 	spoiled := frame(0, 1, 1, askOn)
 	spoiled[1] ^= 1
 	f := New(devices)

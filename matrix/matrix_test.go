@@ -118,17 +118,23 @@ func TestRight(t *testing.T) {
 				m.Effects = append(m.Effects, api.Effect{Name: "x" + strconv.Itoa(i), Place: 100 + i, Causes: []int{0}})
 			}
 		},
-		"no such device":          func(m *api.Matrix) { m.Points[0].Device = 2 },
-		"device -1":               func(m *api.Matrix) { m.Points[0].Device = -1 },
-		"place -1":                func(m *api.Matrix) { m.Points[0].Place = -1 },
-		"place 256":               func(m *api.Matrix) { m.Points[0].Place = 256 },
-		"trip 2":                  func(m *api.Matrix) { m.Points[0].Trip = 2 },
-		"trip -1":                 func(m *api.Matrix) { m.Points[0].Trip = -1 },
-		"on -1":                   func(m *api.Matrix) { m.Points[0].On = -1 },
-		"on 1001":                 func(m *api.Matrix) { m.Points[0].On = 1001 },
-		"off -1":                  func(m *api.Matrix) { m.Points[0].Off = -1 },
-		"off 1001":                func(m *api.Matrix) { m.Points[0].Off = 1001 },
-		"device and place":        func(m *api.Matrix) { m.Points[1].Device, m.Points[1].Place = 0, 3 },
+		"no such device":   func(m *api.Matrix) { m.Points[0].Device = 2 },
+		"device -1":        func(m *api.Matrix) { m.Points[0].Device = -1 },
+		"place -1":         func(m *api.Matrix) { m.Points[0].Place = -1 },
+		"place 256":        func(m *api.Matrix) { m.Points[0].Place = 256 },
+		"trip 2":           func(m *api.Matrix) { m.Points[0].Trip = 2 },
+		"trip -1":          func(m *api.Matrix) { m.Points[0].Trip = -1 },
+		"on -1":            func(m *api.Matrix) { m.Points[0].On = -1 },
+		"on 1001":          func(m *api.Matrix) { m.Points[0].On = 1001 },
+		"off -1":           func(m *api.Matrix) { m.Points[0].Off = -1 },
+		"off 1001":         func(m *api.Matrix) { m.Points[0].Off = 1001 },
+		"device and place": func(m *api.Matrix) { m.Points[1].Device, m.Points[1].Place = 0, 3 },
+		"5 points, each another one": func(m *api.Matrix) {
+			for i := range 3 {
+				m.Points = append(m.Points, api.Point{Name: "x" + strconv.Itoa(i), Place: 100 + i})
+			}
+			m.Causes[0].Points = []int{0, 1, 2, 3, 4}
+		},
 		"no points":               func(m *api.Matrix) { m.Causes[0].Points = nil },
 		"5 points":                func(m *api.Matrix) { m.Causes[0].Points = []int{0, 1, 0, 1, 0} },
 		"a point twice":           func(m *api.Matrix) { m.Causes[0].Points = []int{1, 1} },
@@ -305,6 +311,10 @@ func TestWrongLines(t *testing.T) {
 		"cause x 1 a 0 p q p q p":          api.ErrLine,
 		"effect x d 1 1":                   api.ErrLine,
 		"effect x d 1 1 c c c c c c c c c": api.ErrLine,
+		"cause c 1 a 0":                    api.ErrLine,
+		"cause c 1 a 0 p q p q p":          api.ErrLine,
+		"effect f d 1 1":                   api.ErrLine,
+		"effect f d 1 1 c c c c c c c c c": api.ErrLine,
 		"watch 2 5 20 10":                  api.ErrLine,
 		"key 0123456789abcdef":             api.ErrLine,
 		"key":                              api.ErrLine,

@@ -67,6 +67,7 @@ func TestFirst(t *testing.T) {
 		{[]byte{0, 7, 0, 1}, api.Adu{}, 0, api.ErrHead},
 		{[]byte{0, 7, 0, 0, 1}, api.Adu{}, 0, api.OK},
 		{[]byte{0, 7, 0, 0, 1, 0}, api.Adu{}, 0, api.ErrHead},
+		{[]byte{0, 7, 0, 0, 1, 3, 1, 3, 4}, api.Adu{}, 0, api.ErrHead},
 		{[]byte{0, 7, 0, 0, 0, 0}, api.Adu{}, 0, api.ErrHead},
 		{[]byte{0, 7, 0, 0, 0, 1}, api.Adu{}, 0, api.ErrHead},
 		{[]byte{0, 7, 0, 0, 0, 1, 1}, api.Adu{}, 0, api.ErrHead},
