@@ -1,6 +1,8 @@
 package gate
 
 import (
+	"math"
+	"math/rand"
 	"slices"
 	"testing"
 
@@ -213,5 +215,30 @@ func TestTrippedAnewInFlight(t *testing.T) {
 	steps(t, g, tick(1))
 	if !g.Done(0) {
 		t.Error("not done")
+	}
+}
+
+// TestAnyEvent: whatever an event has, it comes to an end; with an error nothing has changed.
+func TestAnyEvent(t *testing.T) {
+	r := rand.New(rand.NewSource(1))
+	odd := []int64{math.MinInt64, -1, 0, 1, 2, 3, 4, 5, 7, 64, 255, 256, 1000, 1001, 1 << 40, 1<<40 + 1, math.MaxInt64}
+	any := func() int64 { return odd[r.Intn(len(odd))] }
+	for range 20 {
+		g := of(t, random(r), int(any()))
+		for range 400 {
+			e := api.Ev{Kind: r.Intn(9) - 1, N: any(), A: int(any()), B: int(any()), Pdu: make([]byte, r.Intn(12))}
+			r.Read(e.Pdu)
+			if len(e.Pdu) > 0 && r.Intn(2) == 0 {
+				e.Pdu[0] = []byte{2, 3, 4, 6, 16, 22, 23}[r.Intn(7)]
+			}
+			before, now, up, view := g.State(), g.Now(), g.Up(), g.View()
+			out := g.Step(e)
+			if out.Err == api.OK || e.Kind == api.EvBoot {
+				continue
+			}
+			if len(out.Notes)+len(out.Reply)+len(out.Sent) != 0 || !sameState(g.State(), before) || g.Now() != now || g.Up() != up || !slices.Equal(g.View().Looks, view.Looks) {
+				t.Fatalf("%v: %v", e, out)
+			}
+		}
 	}
 }
